@@ -1,0 +1,1 @@
+"""Tariffgate: a customs house that tells why."""
