@@ -22,6 +22,12 @@ WORDS_OUT = """type typing typing_extensions enum Enum IntEnum StrEnum Flag IntF
 namedtuple NamedTuple TypedDict TYPE_CHECKING abstractmethod""".split()
 PARTS_OUT = ["dataclass", "overload", "contextmanager"]
 
+NAMES_OUT = """register mro elements open input version_info with_traceback add_note attrgetter breakpoint builtins
+compile copyright credits delattr dir eval exec exit gc getattr globals hasattr help id importlib license locals
+methodcaller os quit setattr super type vars sys format format_map""".split()
+WALKED = ["zip", "enumerate", "reversed", "range"]
+WALKERS = ["list", "tuple", "dict", "sorted", "sum", "any", "all", "enumerate", "zip", "min", "max"]
+
 STATEMENTS = (
     ast.FunctionDef, ast.ClassDef, ast.ImportFrom, ast.Assign, ast.AugAssign, ast.If, ast.While, ast.For, ast.Return,
     ast.Break, ast.Continue, ast.Pass, ast.Raise, ast.Try, ast.Expr,
@@ -60,6 +66,17 @@ def defined_in(tree):
 
 def drawn_from(tree):
     return [node.module.split(".")[1] for node in tree.body if isinstance(node, ast.ImportFrom)]
+
+
+def called(node):
+    """The name of what is called, where it is a plain name."""
+    return node.func.id if isinstance(node, ast.Call) and isinstance(node.func, ast.Name) else None
+
+
+def walked_at_once(node, above):
+    if isinstance(above, (ast.For, ast.comprehension)):
+        return above.iter is node
+    return called(above) in WALKERS and above.args[0] is node
 
 
 def plain(node):
@@ -208,6 +225,60 @@ class Language(unittest.TestCase):
         for node, where in self.nodes(ast.Call):
             if isinstance(node.func, ast.Attribute):
                 self.assertIn(node.func.attr, methods, where)
+
+    def with_what_stands_above(self):
+        for stem, tree in self.trees.items():
+            for above in ast.walk(tree):
+                for node in ast.iter_child_nodes(above):
+                    if isinstance(node, ast.expr):
+                        yield node, above, f"{stem} {node.lineno}"
+
+    def test_what_is_walked_is_not_kept(self):
+        for node, above, where in self.with_what_stands_above():
+            if called(node) in WALKED:
+                self.assertTrue(walked_at_once(node, above), where)
+
+    def test_sets_are_not_kept(self):
+        for node, above, where in self.with_what_stands_above():
+            if called(node) in ("set", "frozenset") or isinstance(node, ast.Set):
+                self.assertTrue(isinstance(above, ast.Compare) or called(above) in ("len", "sorted"), where)
+
+    def test_names_that_are_not_used(self):
+        for stem, tree in self.trees.items():
+            for word, row in words_of(tree):
+                with self.subTest(stem, row=row):
+                    self.assertNotIn(word, NAMES_OUT)
+
+    def test_no_parameter_or_local_is_called_like_a_class_or_an_import(self):
+        for stem, tree in self.trees.items():
+            taken = [node.name for node in tree.body if isinstance(node, ast.ClassDef)]
+            for node in tree.body:
+                if isinstance(node, ast.ImportFrom):
+                    taken += [part.name for part in node.names]
+            for node in ast.walk(tree):
+                if isinstance(node, ast.arg):
+                    self.assertNotIn(node.arg, taken, f"{stem} {node.lineno}")
+                elif isinstance(node, ast.Name) and isinstance(node.ctx, ast.Store):
+                    self.assertNotIn(node.id, taken, f"{stem} {node.lineno}")
+
+    def test_no_name_is_a_method_and_a_value(self):
+        methods = set()
+        for node, where in self.nodes(ast.ClassDef):
+            names = [part.name for part in node.body if isinstance(part, ast.FunctionDef)]
+            self.assertEqual(len(names), len(set(names)), where)
+            methods |= set(names)
+        for node, where in self.nodes(ast.Attribute):
+            if isinstance(node.ctx, ast.Store):
+                self.assertNotIn(node.attr, methods, where)
+
+    def test_classes_are_not_handed_on(self):
+        classes = {node.name for node, where in self.nodes(ast.ClassDef)}
+        for node, above, where in self.with_what_stands_above():
+            if isinstance(node, ast.Name) and node.id in classes:
+                base = isinstance(above, (ast.ClassDef, ast.ExceptHandler))
+                method = isinstance(above, ast.Attribute) and above.attr == "__init__"
+                asked = isinstance(above, ast.Call) and (above.func is node or called(above) == "isinstance")
+                self.assertTrue(base or method or asked, where)
 
 
 if __name__ == "__main__":
