@@ -16,6 +16,10 @@ OWN_METHODS = """append clear copy count endswith extend find get index insert i
 isupper items join keys ljust lower lstrip partition pop remove replace reverse rfind rjust rpartition rsplit rstrip
 setdefault split splitlines startswith strip update upper values zfill bit_length""".split()
 
+# Names of Python's own values that a value, and those that a method of an object may bear.
+VALUES_FREE = "count index title find get join lower upper split strip copy add".split()
+METHODS_FREE = OWN_METHODS + ["add", "discard"]
+
 TWO_UNDERSCORES = ["__init__", "__eq__", "__repr__", "__str__", "__len__"]
 
 WORDS_OUT = """type typing typing_extensions enum Enum IntEnum StrEnum Flag IntFlag Generic Protocol ABC ABCMeta
@@ -270,6 +274,16 @@ class Language(unittest.TestCase):
         for node, where in self.nodes(ast.Attribute):
             if isinstance(node.ctx, ast.Store):
                 self.assertNotIn(node.attr, methods, where)
+
+    def test_values_and_methods_are_not_called_like_pythons_own(self):
+        taken = {name for kind in (str, int, list, tuple, dict, set, bytes) for name in dir(kind)}
+        for node, where in self.nodes(ast.Attribute):
+            if isinstance(node.ctx, ast.Store):
+                self.assertNotIn(node.attr, taken - set(VALUES_FREE) | {"args", "encode", "format"}, where)
+        for node, where in self.nodes(ast.ClassDef):
+            for part in node.body:
+                if isinstance(part, ast.FunctionDef):
+                    self.assertNotIn(part.name, taken - set(METHODS_FREE) - set(TWO_UNDERSCORES), where)
 
     def test_classes_are_not_handed_on(self):
         classes = {node.name for node, where in self.nodes(ast.ClassDef)}

@@ -1,5 +1,7 @@
-"""Things of any kind, to be handed in where something else is wanted."""
+"""Things of any kind, to be handed in where something else is wanted; samples; and the document's words told again."""
 
+import functools
+import itertools
 from decimal import Decimal
 from fractions import Fraction
 
@@ -144,3 +146,122 @@ def reasons_by_words(told, kinds, look):
         return [(truth, one, other) for one in first for other in second]
     sides = [(truth, 0, reason) for reason in first if reason[0] == (told[0] == "either")]
     return sides + [(truth, 1, reason) for reason in second if reason[0] == (told[0] != "both")]
+
+
+ANY = ("any",)
+NO_WOOD = ("but", ANY, ("made", "wood"))
+
+# Each is told as (kinds, the root's rule, rows). The first four are clear.
+ONE_ROW = ([IRON], "one", [((84,), ANY, "near")])
+FOUR_DEEP = ([WOOD, IRON, ORE, BAR], "near", [
+    ((44, 9, 2, 7), ANY, "one"),
+    ((84,), ("made", "iron"), "one"),
+    ((44, 9), ("chief", "wood"), "one"),
+    ((44,), ANY, "near"),
+    ((84, 2), ("but", ANY, ("used", "tool")), "one"),
+    ((44, 9, 2), ("but", ANY, ("made", "ironore")), "near"),
+    ((84, 1), ("used", "tool"), "near"),
+    ((44, 1), ANY, "one"),
+    ((44, 9, 1), ("made", "ironore"), "one"),
+    ((84, 1, 3), ("chief", "wood"), "one"),
+    ((84, 1, 4), ("chief", "iron"), "one"),
+    ((84, 1, 5), ANY, "one"),
+])
+TWENTY_FOUR = ([IRON, WOOD], "near", [((99 - place,), ANY, "one") for place in range(24)])
+CHAINS = ([ORE, BAR], "near", (
+    [((place,), ANY if place % 2 else ("chief", "iron"), "near") for place in (3, 1, 6, 2, 5, 4)]
+    + [((place, 99), ANY, "one") for place in (4, 2, 6, 1, 3, 5)]
+    + [((place, 99, 1), ANY, "near") for place in (1, 2, 3, 4, 5, 6)]
+    + [((place, 99, 1, 2), ("either", ANY, ("made", "tin")), "one") for place in (6, 5, 4, 3, 2, 1)]
+))
+CLEAR = [ONE_ROW, FOUR_DEEP, TWENTY_FOUR, CHAINS]
+# By the rule one, with what none and what two claim, at the root and beneath it.
+UNCLEAR = [
+    ([WOOD, IRON], "one", [((1,), ("made", "wood"), "one"), ((2,), ("made", "iron"), "one")]),
+    ([WOOD, IRON], "one", [((1,), ("over", WOOD, IRON), "one"), ((2,), ("over", IRON, WOOD), "one")]),
+    ([WOOD, IRON], "near", [((1,), ("made", "tin"), "one"), ((2,), ("over", IRON, WOOD), "one")]),
+    ([IRON, WOOD, TIN], "near", [
+        ((7,), NO_WOOD, "one"), ((7, 2), ANY, "one"), ((7, 1), ("used", "can"), "one"), ((7, 3), ANY, "one"),
+        ((8,), ANY, "near"), ((8, 1), ("made", "tin"), "near"),
+    ]),
+]
+
+
+class Draws:
+    """Numbers that look drawn, and are the same in each run."""
+
+    def __init__(self, seed):
+        self.state = seed
+
+    def upto(self, top):
+        self.state = (self.state * 6364136223846793005 + 1442695040888963407) % 2 ** 64
+        return (self.state >> 33) % (top + 1)
+
+    def one_of(self, row):
+        return row[self.upto(len(row) - 1)]
+
+
+def drawn_tree(seed):
+    """A tree with whatever notes and rules, its rows in no order."""
+    draws = Draws(seed)
+    numbers = []
+    for _ in range(1 + draws.upto(23)):
+        above = draws.one_of([()] + [number for number in numbers if len(number) < 4])
+        number = above + (1 + draws.upto(98),)
+        if number not in numbers:
+            numbers.insert(draws.upto(len(numbers)), number)
+    notes = [ANY] * 40 + DEEP * 5 + ONES + TWOS[::4] + DEEPER[::20]
+    rows = [(number, draws.one_of(notes), draws.one_of(["one", "near", "near"])) for number in numbers]
+    return (draws.one_of(ORDERS), draws.one_of(["one", "near", "near"]), rows)
+
+
+DRAWN = [drawn_tree(seed) for seed in range(60)]
+
+
+@functools.cache
+def looks_by_words(many):
+    """All looks of so many kinds, by rising keys."""
+    def key(look):
+        there = [place for place in range(many) if look[place]]
+        return len(there), there, [look[place] for place in there]
+    rows = itertools.product(range(many + 1), repeat=many)
+    return sorted([row for row in rows if any(row) and set(range(1, max(row))) <= set(row)], key=key)
+
+
+@functools.cache
+def looked_by_words(told, kinds):
+    return sum(claims_by_words(told, kinds, look) for look in looks_by_words(len(kinds)))
+
+
+def alone_by_words(look):
+    return tuple(int(place == look.index(max(look))) for place in range(len(look)))
+
+
+def straight_beneath(rows, at):
+    return sorted((number, told) for number, told, rule in rows if number[:-1] == at)
+
+
+def picked_by_words(sample, at, look):
+    """The number that is picked, or the words of the refusal: none, or two with the first two."""
+    kinds, root, rows = sample
+    rule = dict([((), root)] + [(number, rule) for number, told, rule in rows])[at]
+    left = [(number, told) for number, told in straight_beneath(rows, at) if claims_by_words(told, kinds, look)]
+    if not left:
+        return "none"
+    if rule == "one":
+        return left[0][0] if len(left) == 1 else ("two", left[0][0], left[1][0])
+    fewest = min(looked_by_words(told, tuple(kinds)) for number, told in left)
+    left = [(number, told) for number, told in left if looked_by_words(told, tuple(kinds)) == fewest]
+    ahead = [number for number, told in left if claims_by_words(told, kinds, alone_by_words(look))]
+    return ahead[-1] if ahead else left[-1][0]
+
+
+def way_by_words(sample, look):
+    """The way of a look, and None; or the way so far, and the words of the refusal."""
+    way = []
+    while straight_beneath(sample[2], way[-1] if way else ()):
+        found = picked_by_words(sample, way[-1] if way else (), look)
+        if found == "none" or found[0] == "two":
+            return way, found
+        way.append(found)
+    return way, None
