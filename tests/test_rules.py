@@ -1,10 +1,8 @@
-import itertools
 import unittest
-from fractions import Fraction
 
 from tariffgate.errors import NoRule
 from tariffgate.rules import AllOf, Change, Grown, OneOf, Rule, Worked, rule_for, rule_of, rules_of
-from things import Spiteful, deep_tuple, named, own_list, things
+from things import Spiteful, deep_tuple, enough_by_words, named, own_list, things
 
 GROWN = ("grown",)
 HALF = ("share", (1, 2))
@@ -48,22 +46,6 @@ def by_hand(told):
         return Worked(told[1])
     one, other = by_hand(told[1]), by_hand(told[2])
     return AllOf(one, other) if told[0] == "all" else OneOf(one, other)
-
-
-def enough_by_words(told, number, price, own, foreign):
-    """Whether a rule says enough, by the words of the document and with nothing of the program."""
-    if told[0] == "grown":
-        return foreign == []
-    if told[0] == "change":
-        for other in foreign:
-            parts = list(itertools.zip_longest(number, other))[:told[1]]
-            if all(mine == theirs for mine, theirs in parts):
-                return False
-        return True
-    if told[0] == "share":
-        return own >= Fraction(*told[1]) * price
-    truths = [enough_by_words(rule, number, price, own, foreign) for rule in told[1:]]
-    return all(truths) if told[0] == "all" else any(truths)
 
 
 def deepened(told, word, side, many):

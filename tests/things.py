@@ -265,3 +265,76 @@ def way_by_words(sample, look):
             return way, found
         way.append(found)
     return way, None
+
+
+def enough_by_words(told, number, price, own, foreign):
+    """Whether a rule says enough, by the words of the document and with nothing of the program."""
+    if told[0] == "grown":
+        return foreign == []
+    if told[0] == "change":
+        for other in foreign:
+            parts = list(itertools.zip_longest(number, other))[:told[1]]
+            if all(mine == theirs for mine, theirs in parts):
+                return False
+        return True
+    if told[0] == "share":
+        return own >= Fraction(*told[1]) * price
+    truths = [enough_by_words(rule, number, price, own, foreign) for rule in told[1:]]
+    return all(truths) if told[0] == "all" else any(truths)
+
+
+def sets_of(many):
+    """All lists of places of so many quotas, rising."""
+    return [list(some) for size in range(many + 1) for some in itertools.combinations(range(many), size)]
+
+
+def drawn_line(seed, many, longest, top):
+    """Rooms and a line, as a tuple; the weights are great in one line and small in another."""
+    draws = Draws(seed)
+    several = draws.one_of([many, draws.upto(many)])
+    rooms = [draws.one_of([0, top, draws.upto(top), draws.upto(top)]) for _ in range(several)]
+    some = sets_of(len(rooms))
+    upmost = draws.one_of([top, top, top // 3 + 1, top // 9 + 1])
+    weights = [0, upmost, upmost, draws.upto(upmost), draws.upto(upmost), draws.upto(upmost)]
+    length = draws.one_of([longest, longest, draws.upto(longest)])
+    return rooms, [(list(draws.one_of(some)), draws.one_of(weights)) for _ in range(length)]
+
+
+# Those ahead have to be led over quota by quota, from the first to the last one, ahead of the last entry's grant.
+CHAIN = ([7] * 6, [([place, place + 1], 7) for place in range(5)] + [([0], 9)])
+CHAIN_BACK = ([7] * 6, [([place - 1, place], 7) for place in (5, 4, 3, 2, 1)] + [([5], 9)])
+# Each is told as (rooms, line).
+LINES = [
+    ([], []), ([], [([], 5), ([], 0)]), ([5], []), ([5, 0, 10 ** 15], []), ([5], [([], 3)]), ([5], [([0], 5)]),
+    ([5], [([0], 6), ([0], 1), ([], 0), ([0], 0)]), ([0, 0], [([0, 1], 1), ([0], 0)]), CHAIN, CHAIN_BACK,
+    ([4, 3], [([0, 1], 5), ([0], 4), ([1], 2), ([0, 1], 1)]),
+    ([10 ** 15] * 6, [([0, 1, 2, 3, 4, 5], 10 ** 15)] * 40),
+    ([10 ** 15, 1, 10 ** 15 - 1], [([0, 1], 10 ** 15), ([1, 2], 10 ** 15), ([0, 2], 10 ** 15), ([2], 1), ([0, 1], 0)]),
+    ([30, 20], [([0, 1], place) for place in range(40)]),
+    ([6, 6, 6], [([0, 1], 4), ([1, 2], 4), ([0, 2], 4), ([0], 3), ([1], 3), ([2], 3)]),
+    ([5, 5], [([0], 9), ([1], 3), ([0, 1], 9), ([1], 1)]),
+] + [drawn_line(seed, 6, 40, (3, 20, 10 ** 15)[seed % 3]) for seed in range(60)]
+
+
+def granted_by_sets(rooms, line):
+    """What is granted, by sets of quotas: an entry has the least that a set which holds all of its own has left."""
+    granted = []
+    for places, weight in line:
+        left = [weight]
+        for some in sets_of(len(rooms)):
+            if set(places) <= set(some):
+                inside = [grant for entry, grant in zip(line, granted) if set(entry[0]) <= set(some)]
+                left.append(sum(rooms[place] for place in some) - sum(inside))
+        granted.append(min(left))
+    return granted
+
+
+def splits_of(left, places, weight):
+    """All ways of leading at most a weight through the places, as dicts from a place to an amount from 1 on."""
+    ways = [{}]
+    for place in places:
+        ways = [
+            {**way, place: amount} if amount else way
+            for way in ways for amount in range(min(left[place], weight - sum(way.values())) + 1)
+        ]
+    return ways
